@@ -1,6 +1,9 @@
 package query
 
-import "veil/api"
+import (
+	"veil/api"
+	"veil/word"
+)
 
 // The kinds of tokens that the grammar tells apart: finer than those of api, which have but words.
 const (
@@ -25,17 +28,14 @@ func kindOf(t api.Token) int {
 	return kindNone
 }
 
-// kindOfWord tells the kind of a word.
-func kindOfWord(word string) int {
-	if 'a' <= word[0] && word[0] <= 'z' {
+func kindOfWord(text string) int {
+	switch word.KindOf(text) {
+	case word.Name:
 		return kindName
+	case word.Title:
+		return kindTitle
 	}
-	switch word {
-	case "MATCH", "WHERE", "AND", "RETURN", "ORDER", "BY", "DESC", "SKIP", "LIMIT",
-		"SET", "DELETE", "CREATE", "CALL", "IS", "NOT", "NULL", "COUNT":
-		return kindKeyword
-	}
-	return kindTitle
+	return kindKeyword
 }
 
 // parser goes through tokens. Once one does not fit, none are left, so that whatever is asked next fails too and every loop ends.

@@ -5,6 +5,7 @@ import (
 	"strings"
 
 	"veil/api"
+	"veil/word"
 )
 
 // The states in which a token's first byte puts the machine.
@@ -36,18 +37,14 @@ func opening(c byte) int {
 	case '(', ')', ':', ',', '=', '*', '{', '}':
 		return stateMark
 	}
-	if isLetter(c) {
+	if word.IsLetter(c) {
 		return stateWord
 	}
-	if isDigit(c) {
+	if word.IsDigit(c) {
 		return stateNumber
 	}
 	return stateNone
 }
-
-func isDigit(c byte) bool { return '0' <= c && c <= '9' }
-
-func isLetter(c byte) bool { return 'a' <= c && c <= 'z' || 'A' <= c && c <= 'Z' }
 
 // cutter is the machine that cuts a text: the token in hand goes from byte from up to byte at.
 type cutter struct {
@@ -90,7 +87,7 @@ func (c *cutter) token() bool {
 	}
 	return false
 word:
-	if c.goesOn(isLetter) || c.goesOn(isDigit) {
+	if c.goesOn(word.IsLetter) || c.goesOn(word.IsDigit) {
 		goto word
 	}
 	return c.addWord()
@@ -98,12 +95,12 @@ minus:
 	if c.takes('[') {
 		goto mark
 	}
-	if c.goesOn(isDigit) {
+	if c.goesOn(word.IsDigit) {
 		goto number
 	}
 	return false
 number:
-	if c.goesOn(isDigit) {
+	if c.goesOn(word.IsDigit) {
 		goto number
 	}
 	return c.addNumber()
