@@ -8,18 +8,19 @@ import (
 // holdAll: do all conditions hold of a row?
 func holdAll(g *store.Graph, conds []api.Cond, bound map[string]int) bool {
 	for _, c := range conds {
-		if !holds(c.Op, valueOf(g, c.A, bound), valueOf(g, c.B, bound)) {
+		if !holds(c.Op, Value(g, c.A, bound[c.A.Name]), Value(g, c.B, bound[c.B.Name])) {
 			return false
 		}
 	}
 	return true
 }
 
-func valueOf(g *store.Graph, term api.Term, bound map[string]int) store.Value {
+// Value tells the value of a term whose variable, if it has one, stands for the node of this number.
+func Value(g *store.Graph, term api.Term, node int) store.Value {
 	if term.Name == "" {
 		return store.Number(term.Value)
 	}
-	return g.Value(bound[term.Name], term.Key)
+	return g.Value(node, term.Key)
 }
 
 func holds(op int, a, b store.Value) bool {

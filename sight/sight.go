@@ -16,7 +16,7 @@ func Of(all *store.Graph, role rights.Role) *store.Graph {
 		}
 	}
 	for _, edge := range all.Edges {
-		if role.May(rights.Right{Verb: rights.Walk, Of: edge.Type}) && hasEnds(seen, edge) {
+		if HasEdge(seen, role, edge) {
 			seen.Edges = append(seen.Edges, edge)
 		}
 	}
@@ -34,9 +34,9 @@ func readable(node store.Node, role rights.Role) map[string]int {
 	return props
 }
 
-// hasEnds: are both nodes of an edge in the graph?
-func hasEnds(g *store.Graph, edge store.Edge) bool {
-	_, from := g.Node(edge.From)
-	_, to := g.Node(edge.To)
-	return from && to
+// HasEdge: does a role that sees these nodes see this edge?
+func HasEdge(seen *store.Graph, role rights.Role, edge store.Edge) bool {
+	_, from := seen.Node(edge.From)
+	_, to := seen.Node(edge.To)
+	return from && to && role.May(rights.Right{Verb: rights.Walk, Of: edge.Type})
 }

@@ -86,3 +86,20 @@ func TestOfIsACopy(t *testing.T) {
 		t.Errorf("%v, want %v", all, whole())
 	}
 }
+
+// An edge is seen, if its type may be walked and both its ends are seen, whether it is there by now or not.
+func TestHasEdge(t *testing.T) {
+	p, _ := rights.Parse("role a\nsee A\nsee B\nwalk T\ncut U\ndetach")
+	role, _ := p.Role("a")
+	nodes := sight.Of(whole(), role)
+	for _, c := range []struct {
+		edge store.Edge
+		want bool
+	}{
+		{edge("T", 1, 2), true}, {edge("T", 4, 4), true}, {edge("T", 4, 2), true}, {edge("U", 1, 2), false}, {edge("T", 1, 3), false}, {edge("T", 3, 1), false}, {edge("T", 3, 3), false}, {edge("T", 1, 5), false},
+	} {
+		if got := sight.HasEdge(nodes, role, c.edge); got != c.want {
+			t.Errorf("HasEdge(%v) = %v", c.edge, got)
+		}
+	}
+}

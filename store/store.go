@@ -26,11 +26,39 @@ type Graph struct {
 	last  int // the number that was given last: none is given again
 }
 
-// Add adds a node, whose properties it keeps; it answers the node's number.
+// Add adds a node; it keeps the map of its properties and writes into it later on. It answers the node's number.
 func (g *Graph) Add(label string, props map[string]int) int {
 	g.last++
 	g.Nodes = append(g.Nodes, Node{Number: g.last, Label: label, Props: props})
 	return g.last
+}
+
+// Link adds an edge from a node to a node.
+func (g *Graph) Link(kind string, from, to int) {
+	g.Edges = append(g.Edges, Edge{Type: kind, From: from, To: to})
+}
+
+// Set gives a node a property, or takes it away, if the value is NULL.
+func (g *Graph) Set(number int, key string, value Value) {
+	node, there := g.Node(number)
+	switch {
+	case !there:
+	case value.Some:
+		node.Props[key] = value.Number
+	default:
+		delete(node.Props, key)
+	}
+}
+
+// Drop takes away nodes, and all edges that have one of them for an end.
+func (g *Graph) Drop(numbers []int) {
+	g.Nodes = slices.DeleteFunc(g.Nodes, func(n Node) bool { return slices.Contains(numbers, n.Number) })
+	g.Edges = slices.DeleteFunc(g.Edges, func(e Edge) bool { return e.EndsAt(numbers) })
+}
+
+// EndsAt: does the edge have one of these nodes for an end?
+func (e Edge) EndsAt(numbers []int) bool {
+	return slices.Contains(numbers, e.From) || slices.Contains(numbers, e.To)
 }
 
 // Node finds a node by its number; it answers whether there is one.

@@ -16,24 +16,6 @@ func edge(kind string, from, to int) store.Edge {
 	return store.Edge{Type: kind, From: from, To: to}
 }
 
-// P9, P10, P14: the document's example, its edge laid by hand.
-func TestExampleWithItsEdge(t *testing.T) {
-	g, _ := New("role root\nsee A\nsee B\nwalk T\nread A.k\nmake A\nmake B\nset A.k\nlink T")
-	g.Run("root", "CREATE (A {k : 5})", 1)
-	g.Run("root", "CREATE (B)", 1)
-	g.all.Edges = []store.Edge{edge("T", 1, 2)}
-	const text = "MATCH (a)-[T]->(b) RETURN a,a.k,b,b.k"
-	if got, fault := g.Run("root", text, 4); fault != api.OK || !slices.Equal(got, []string{"1|5|2|-"}) {
-		t.Errorf("with 4: %q, %d", got, fault)
-	}
-	if got, fault := g.Run("root", text, 3); fault != api.ErrBudget || got != nil {
-		t.Errorf("with 3: %q, %d", got, fault)
-	}
-	if got := g.Dump(); !slices.Equal(got, []string{"1 A k=5", "2 B", "1 T 2"}) {
-		t.Errorf("Dump() = %q", got)
-	}
-}
-
 // P14: edges stand behind all nodes, in the order of their numbers, each told by itself.
 func TestDumpEdges(t *testing.T) {
 	g, _ := New("role root\nmake A")

@@ -180,12 +180,3 @@ func TestDump(t *testing.T) {
 	answers(t, g, "a", "CREATE (A {b:0,ab:-1,aB:10,a10:-1000000000,a1:3,a:2})", "1")
 	dumps(t, g, "1 A a=2 a1=3 a10=-1000000000 aB=10 ab=-1 b=0")
 }
-
-// The document's example, but for its link.
-func TestExample(t *testing.T) {
-	g := made(t, "role root\nsee A\nsee B\nwalk T\nread A.k\nmake A\nmake B\nset A.k\nlink T")
-	answers(t, g, "root", "CREATE (A {k : 5})", "1")
-	answers(t, g, "root", "CREATE (B)", "2")
-	answers(t, g, "root", "MATCH (a),(b) RETURN a,a.k,b,b.k", "1|5|1|5", "1|5|2|-", "2|-|1|5", "2|-|2|-")
-	dumps(t, g, "1 A k=5", "2 B")
-}

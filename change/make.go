@@ -1,30 +1,29 @@
-package veil
+package change
 
 import (
-	"strconv"
-
 	"veil/api"
 	"veil/rights"
+	"veil/store"
 )
 
 // costOfMake is what a make costs, whatever it makes.
 const costOfMake = 1
 
-// makeNode adds a node (P11).
-func (g *Graph) makeNode(who rights.Role, q api.Query, budget int) ([]string, api.Errno) {
+// makeNode adds a node; it answers its number.
+func makeNode(all *store.Graph, who rights.Role, q api.Query, budget int) (int, api.Errno) {
 	switch {
 	case budget < costOfMake:
-		return nil, api.ErrBudget
+		return 0, api.ErrBudget
 	case !mayMake(who, q):
-		return nil, api.ErrDenied
-	case len(g.all.Nodes) >= api.MaxNodes:
-		return nil, api.ErrFull
+		return 0, api.ErrDenied
+	case len(all.Nodes) >= api.MaxNodes:
+		return 0, api.ErrFull
 	}
 	props := map[string]int{}
 	for _, pair := range q.Pairs {
 		props[pair.Key] = pair.Value
 	}
-	return []string{strconv.Itoa(g.all.Add(q.Label, props))}, api.OK
+	return all.Add(q.Label, props), api.OK
 }
 
 // mayMake: may the role make a node of this label, with these keys?
